@@ -1,0 +1,1 @@
+"""Wholecommits: a store of versions that stands in one serial order, whatever is cut."""
