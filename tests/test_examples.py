@@ -1,10 +1,35 @@
 import unittest
 
+from wholecommits.judges import Dealing, ring, serial_order, ties, worths_behind
 from wholecommits.log import Log, formatted
 from wholecommits.pages import Pages
+from wholecommits.serial import Check
+from wholecommits.vacuum import harm, needed
 
 
 class Examples(unittest.TestCase):
+
+    def test_e01(self):
+        one = Dealing(0, 1, (), (), (("a", 5),))
+        two = Dealing(0, 2, ("a",), (), (("b", 6),))
+        looker = Dealing(1, None, ("a",), (("b", "c", ()),), ())
+        self.assertEqual(
+            (ties((one, two, looker)), ring((one, two, looker)), serial_order((one, two)),
+             worths_behind((one, two), (1, 0))),
+            ([(0, 2), (1, 0), (2, 1)], (0, 2, 1), (1, 0), {"a": 5, "b": 6}))
+
+    def test_e02(self):
+        c = Check(0)
+        self.assertEqual(
+            (c.opens(0), c.opens(0), c.opens(0), c.commits(0, (), (), (("a", 5),)),
+             c.commits(1, ("a",), (), (("b", 6),)), c.remembered()),
+            (0, 1, 2, 1, 2, (0, 1)))
+
+    def test_e03(self):
+        self.assertEqual(
+            (needed([(9, None), (7, 4), (3, 5)], (4,), 9), needed([(9, None), (7, 4)], (), 9),
+             harm([(7, 4), (3, 5)], (4,), 7, 3)),
+            ((3, 9), (), 4))
 
     def test_e06(self):
         d = formatted(24, 8)

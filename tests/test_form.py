@@ -30,6 +30,12 @@ INTERFACE = {
     "tree": {name: None for name in "look put take first_from walk all_spots depth pages_of is_sound".split()},
     "versions": {name: None for name in
                  "write_all take_version at range_at versions_of all_versions dict_at".split()},
+    "transactions": {"Transaction": "stands_at get between put drop end is_open saw_keys saw_ranges wrote dealing"},
+    "serial": {"Check": "opens last commits would_commit gives_up open_entries remembered could_ring copy"},
+    "judges": {"Dealing": "__init__ __eq__",
+               **{name: None for name in """sees many_orders has_seen is_serial_order is_ring first_failure ties
+                  lost_updates serial_order ring worths_behind prefix""".split()}},
+    "vacuum": {name: None for name in "needed is_kept_right harm takeable sweep".split()},
 }
 
 

@@ -43,16 +43,64 @@ def is_mark(thing):
     return thing is None or is_worth(thing)
 
 
+def is_tuple(many, thing):
+    """Whether it is a tuple of so many."""
+    return isinstance(thing, tuple) and len(thing) == many
+
+
+def is_tuple_of(judge, thing):
+    """Whether it is a tuple of what a function judges to be right."""
+    return isinstance(thing, tuple) and all([judge(item) for item in thing])
+
+
+def is_ascending(row):
+    """Whether each one is less than the next."""
+    return all([row[at] < row[at + 1] for at in range(len(row) - 1)])
+
+
+def is_keys(thing):
+    """Whether it is an ascending tuple of keys."""
+    return is_tuple_of(is_key, thing) and is_ascending(thing)
+
+
+def is_range(thing):
+    """Whether it is a triple (low, high, own) of a range that was seen but for its own keys."""
+    if not is_tuple(3, thing):
+        return False
+    low, high, own = thing
+    if not is_key(low) or not is_key(high) or low > high:
+        return False
+    return is_keys(own) and all([low <= key <= high for key in own])
+
+
+def is_ranges(thing):
+    """Whether it is an ascending tuple of ranges that were seen."""
+    return is_tuple_of(is_range, thing) and is_ascending(thing)
+
+
+def is_write(thing):
+    """Whether it is a pair of a key and a mark."""
+    return is_tuple(2, thing) and is_key(thing[0]) and is_mark(thing[1])
+
+
+def is_writes(thing):
+    """Whether it is a tuple of pairs of a key and a mark, the keys ascending."""
+    return is_tuple_of(is_write, thing) and is_ascending([row[0] for row in thing])
+
+
 def is_spot(thing):
     """Whether it is a pair of a key and a number of a spot."""
-    if not isinstance(thing, tuple) or len(thing) != 2:
-        return False
-    return is_key(thing[0]) and is_within(-GREATEST, GREATEST, thing[1])
+    return is_tuple(2, thing) and is_key(thing[0]) and is_within(-GREATEST, GREATEST, thing[1])
 
 
 def is_commit(thing):
     """Whether it can be the number of a commit."""
     return is_within(1, GREATEST, thing)
+
+
+def is_version(thing):
+    """Whether it is a pair of the number of a commit and a mark."""
+    return is_tuple(2, thing) and is_commit(thing[0]) and is_mark(thing[1])
 
 
 def is_snapshot(thing):

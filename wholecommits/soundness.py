@@ -1,7 +1,7 @@
 """Whether the pages of a batch hold a sound tree: nothing is taken for granted of what they hold."""
 
 from wholecommits.errors import NoPage
-from wholecommits.kinds import is_spot, is_worth
+from wholecommits.kinds import is_ascending, is_spot, is_worth
 from wholecommits.nodes import LEAST, MOST, rows_of
 
 LOWEST = ("a", -10 ** 18)
@@ -44,11 +44,6 @@ def is_inner_form(items):
     if len(items) % 3 != 2:
         return False
     return all([is_spot((items[at], items[at + 1])) for at in range(2, len(items), 3)])
-
-
-def is_ascending(spots):
-    """Whether each one is less than the next."""
-    return all([spots[at] < spots[at + 1] for at in range(len(spots) - 1)])
 
 
 def is_leaf_sound(low, high, items):

@@ -1,7 +1,8 @@
 """Versions of keys in a tree: that of a commit lies at the spot (key, - commit), so the newest stands first."""
 
-from wholecommits.errors import NoChanges, NoCommit, NoKey, NoSnapshot
-from wholecommits.kinds import GREATEST, is_changes, is_commit, is_key, is_snapshot
+from wholecommits.demands import demand_key
+from wholecommits.errors import NoChanges, NoCommit, NoSnapshot
+from wholecommits.kinds import GREATEST, is_changes, is_commit, is_snapshot
 from wholecommits.tree import all_spots, first_from, put, take, walk
 
 
@@ -66,12 +67,6 @@ def seen_at(snapshot, triples):
             if mark is not None:
                 seen.append((key, mark))
     return seen
-
-
-def demand_key(thing):
-    """Raise NoKey for what is no key."""
-    if not is_key(thing):
-        raise NoKey()
 
 
 def demand_commit(thing):
