@@ -102,32 +102,164 @@ class Disks(unittest.TestCase):
         disk.waiting().clear()
         self.assertEqual(disk.waiting(), {1: 1})
 
-    def test_against_plain_lists(self):
-        draw = random.Random(3)
+    def test_errors_come_in_their_order(self):
         disk = Disk(16)
-        lies = [[()] for _ in range(16)]
-        arrived = 0
-        for step in range(2000):
-            block = draw.randrange(16)
-            deed = draw.choice(["write", "write", "reach", "force", "cut"])
-            if deed == "write":
-                disk.write(block, (step,))
-                lies[block].append((step,))
-            elif deed == "reach" and len(lies[block]) > 1:
-                disk.reach(block)
-                lies[block].pop(0)
-                arrived += 1
-            elif deed == "force":
-                disk.force((block,))
-                arrived += len(lies[block]) - 1
-                lies[block] = lies[block][-1:]
-            elif deed == "cut" and step % 7 == 0:
+        disk.write(1, ("a",))
+        disk.power(0)
+        for call in (lambda: disk.write(16, None), lambda: disk.reach(16), lambda: disk.force((16,)),
+                     lambda: disk.force((1, 0))):
+            self.assertRaises(NoBlock, call)
+        self.assertRaises(NoContent, disk.write, 1, [])
+        self.assertRaises(NothingWaits, disk.reach, 0)
+        self.assertRaises(NoNumber, disk.power, -1)
+        for call in (lambda: disk.reach(1), lambda: disk.force((0, 1)), disk.calm):
+            self.assertRaises(Stopped, call)
+        disk.force((0, 2))
+        self.assertEqual((disk.waiting(), disk.lying(1), disk.reached()), ({1: 1}, (), 0))
+
+    def test_what_may_be_passed(self):
+        disk = Disk(600)
+        for thing in things():
+            if plain_row(thing, 0, 40):
+                disk.write(599, thing)
+                self.assertEqual(disk.read(599), thing)
+            if plain_lot(thing, 600):
+                self.assertIsNone(disk.force(thing))
+            if thing is None or plain_integer(thing, 0, 10 ** 6):
+                self.assertIsNone(disk.power(thing))
                 disk.cut()
-                lies = [row[:1] for row in lies]
-            self.assertEqual([disk.lying(at) for at in range(16)], [row[0] for row in lies])
-            self.assertEqual([disk.read(at) for at in range(16)], [row[-1] for row in lies])
-            self.assertEqual(disk.waiting(), {at: len(row) - 1 for at, row in enumerate(lies) if len(row) > 1})
-            self.assertEqual(disk.reached(), arrived)
+
+
+class Account:
+    """A disk beside plain rows: what lies in each block, and behind that what waits for it."""
+
+    def __init__(self, case, disk, blocks):
+        self.case = case
+        self.disk = disk
+        self.rows = [[()] for _ in range(blocks)]
+        self.left = None
+        self.arrived = 0
+
+    def waiting(self):
+        return {block: len(row) - 1 for block, row in enumerate(self.rows) if len(row) > 1}
+
+    def write(self, block, content):
+        self.case.assertIsNone(self.disk.write(block, content))
+        self.rows[block].append(content)
+
+    def reach(self, block):
+        self.let([block], lambda: self.disk.reach(block))
+
+    def force(self, lot):
+        self.let([block for block in lot for _ in self.rows[block][1:]], lambda: self.disk.force(lot))
+
+    def calm(self):
+        self.let([block for block in range(len(self.rows)) for _ in self.rows[block][1:]], self.disk.calm)
+
+    def let(self, blocks, call):
+        """Let the eldest writes for these blocks reach the disk, one behind another, as far as there is power."""
+        many = len(blocks) if self.left is None else min(self.left, len(blocks))
+        if many < len(blocks):
+            self.case.assertRaises(Stopped, call)
+        else:
+            self.case.assertIsNone(call())
+        for block in blocks[:many]:
+            del self.rows[block][0]
+        self.arrived += many
+        self.left = None if self.left is None else self.left - many
+        self.compare()
+        if many < len(blocks):
+            self.cut()
+
+    def power(self, many):
+        self.case.assertIsNone(self.disk.power(many))
+        self.left = many
+
+    def cut(self):
+        self.case.assertIsNone(self.disk.cut())
+        self.rows = [row[:1] for row in self.rows]
+        self.left = None
+
+    def compare(self):
+        disk, case = self.disk, self.case
+        case.assertEqual([disk.lying(at) for at in range(len(self.rows))], [row[0] for row in self.rows])
+        case.assertEqual([disk.read(at) for at in range(len(self.rows))], [row[-1] for row in self.rows])
+        case.assertEqual((disk.waiting(), disk.reached(), disk.blocks()),
+                         (self.waiting(), self.arrived, len(self.rows)))
+
+    def copied(self):
+        """An account of a copy, which has what lies there alone."""
+        other = Account(self.case, self.disk.copy(), len(self.rows))
+        other.rows = [row[:1] for row in self.rows]
+        other.compare()
+        return other
+
+
+def one_deed(draw, account, step):
+    blocks = len(account.rows)
+    deed = draw.choice(["write"] * 6 + ["reach"] * 4 + ["force", "force", "calm", "power", "cut"])
+    if deed == "write":
+        content = draw.choice([(), (step,), ("a", step), (step,) * 40])
+        account.write(draw.randrange(blocks), content)
+    elif deed == "reach" and account.waiting():
+        account.reach(draw.choice(sorted(account.waiting())))
+    elif deed == "force":
+        account.force(tuple(sorted(draw.sample(range(blocks), draw.randrange(5)))))
+    elif deed == "calm" and draw.random() < 0.3:
+        account.calm()
+    elif deed == "power":
+        account.power(draw.choice([None, 0, 1, 2, 5, 10 ** 6]))
+    elif deed == "cut" and draw.random() < 0.3:
+        account.cut()
+
+
+class Rows(unittest.TestCase):
+
+    def test_drawn_rows(self):
+        for seed in range(30):
+            draw = random.Random(seed)
+            blocks = draw.choice([16, 17, 30])
+            account = Account(self, Disk(blocks), blocks)
+            for step in range(200):
+                one_deed(draw, account, step)
+                account.compare()
+
+    def test_copies_go_on_apart(self):
+        for seed in range(15):
+            draw = random.Random(seed)
+            accounts = [Account(self, Disk(16), 16)]
+            for step in range(150):
+                if step % 40 == 30:
+                    accounts.append(draw.choice(accounts).copied())
+                one_deed(draw, draw.choice(accounts), step)
+                for account in accounts:
+                    account.compare()
+
+    def test_power_for_each_number_of_writes(self):
+        for many in range(9):
+            for deed in ("calm", "force", "reach"):
+                account = Account(self, Disk(16), 16)
+                for step, block in enumerate((5, 3, 5, 7, 3, 0, 5)):
+                    account.write(block, (step,))
+                account.power(many)
+                if deed == "calm":
+                    account.calm()
+                elif deed == "force":
+                    account.force((0, 1, 3, 5, 7, 15))
+                else:
+                    for block in (7, 5, 5, 0, 3, 5, 3):
+                        if block in account.waiting():
+                            account.reach(block)
+                self.assertEqual(account.arrived, min(many, 7))
+                account.compare()
+        account = Account(self, Disk(16), 16)
+        for step in range(5):
+            account.write(2, (step,))
+        account.power(3)
+        account.power(2)
+        account.power(4)
+        account.calm()
+        self.assertEqual((account.disk.lying(2), account.arrived), ((3,), 4))
 
 
 if __name__ == "__main__":
