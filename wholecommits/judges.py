@@ -115,8 +115,9 @@ def many_orders(history):
     for one, other in ties(history):
         needs[other] |= 1 << one
     # A number stands for the dealings whose bits it has; many tells in how many orders just these can be the first.
-    many = [1] + [0] * ((1 << len(history)) - 1)
-    for ahead in range(len(many)):
+    all_sets = 1 << len(history)
+    many = [1] + [0] * (all_sets - 1)
+    for ahead in range(all_sets):
         for index, need in enumerate(needs):
             if ahead & (1 << index) == 0 and ahead & need == need:
                 many[ahead | (1 << index)] += many[ahead]
