@@ -1,7 +1,7 @@
 """Pages that are, after any cut, as behind the last record of the log's prefix, and the batches that change them."""
 
 from wholecommits.errors import BadDisk, NoItems, NoNote, NoNumber, NoPage, NoRoom, Over, TooLarge
-from wholecommits.kinds import GREATEST_ITEM, is_content, is_row, is_within
+from wholecommits.kinds import GREATEST_ITEM, LONGEST_CONTENT, is_content, is_row, is_within
 from wholecommits.log import Log
 from wholecommits.pieces import MOST_ITEMS, counted, master_of, piece_count, whole_records
 
@@ -33,6 +33,16 @@ def batch_record(note, changes):
     return tuple(record)
 
 
+def is_batch_record(many, record):
+    """Whether a record is one of a batch, so many pages being there."""
+    if not is_within(0, LONGEST_CONTENT, record[0]):
+        return False
+    at = 1 + record[0]
+    while at + 1 < len(record) and is_within(0, many - 1, record[at]) and is_within(0, MOST_PAGE_ITEMS, record[at + 1]):
+        at += 2 + record[at + 1]
+    return at == len(record)
+
+
 def note_of(record):
     """The note of a batch's record."""
     return record[1:1 + record[0]]
@@ -57,6 +67,8 @@ class Pages:
         rows = whole_records(counted(disk, master))
         first_block = master[2] + 1
         lying = [disk.read(block) for block in range(first_block, disk.blocks())]
+        if not all([is_batch_record(len(lying), row[2]) for row in rows]):
+            raise BadDisk()
         self.bodies = [content[1:] for content in lying]
         self.numbers = [content[0] if content else -1 for content in lying]
         self.unwritten = {}

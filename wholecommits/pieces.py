@@ -2,7 +2,7 @@
 
 from wholecommits.disk import Disk
 from wholecommits.errors import BadDisk
-from wholecommits.kinds import is_number, is_within
+from wholecommits.kinds import GREATEST_ITEM, is_number, is_within
 
 PIECE_SIZE = 36
 MOST_ITEMS = 6000
@@ -23,6 +23,9 @@ def master_of(disk):
     if len(master) != 6 or master[0] != "master":
         raise BadDisk()
     if not all([is_number(item) for item in master[1:]]) or not is_ring(disk.blocks(), master[2]):
+        raise BadDisk()
+    # An opening has to write an epoch that is one more.
+    if master[1] >= GREATEST_ITEM:
         raise BadDisk()
     return master
 
