@@ -1,9 +1,15 @@
 import unittest
 
+from wholecommits.desk import tale
 from wholecommits.judges import Dealing, ring, serial_order, ties, worths_behind
 from wholecommits.log import Log, formatted
 from wholecommits.pages import Pages
+from wholecommits.parsing import program_text
+from wholecommits.recovery import meaning
+from wholecommits.running import Hand, plain_run
 from wholecommits.serial import Check
+from wholecommits.store import new_store
+from wholecommits.tongue import Program
 from wholecommits.vacuum import harm, needed
 
 
@@ -31,6 +37,15 @@ class Examples(unittest.TestCase):
              harm([(7, 4), (3, 5)], (4,), 7, 3)),
             ((3, 9), (), 4))
 
+    def test_e04(self):
+        p = Program((("get", "n", ("key", "a")), ("put", ("key", "a"), ("+", ("name", "n"), ("num", 1)))))
+        self.assertEqual((plain_run(p, {"a": 4}), program_text(p), Hand(p).asks()),
+                         (("over", (), {"a": 5}), "get n 'a'\nput 'a' (n + 1)\n", ("get", "a")))
+
+    def test_e05(self):
+        self.assertEqual(tale(64, 24, ["begin t", "put t a 5", "commit t", "cut", "show a", "last"]),
+                         ["ok", "ok", "1", "ok", "5", "1"])
+
     def test_e06(self):
         d = formatted(24, 8)
         g = Log(d)
@@ -44,6 +59,12 @@ class Examples(unittest.TestCase):
         self.assertEqual(
             (b.take_page(), b.put(1, ("leaf", 5)), b.done(("note",)), p.held(1), p.dirty(), p.notes()),
             (1, None, 0, ("leaf", 5), (0, 1), [(0, ("note",))]))
+
+    def test_e08(self):
+        s = new_store(64, 24)
+        t = s.begin()
+        self.assertEqual((s.put(t, "a", 5), s.commit(t), s.now(), s.lasting(), meaning(s.disk())),
+                         (None, 1, {"a": 5}, 1, {"a": 5}))
 
 
 if __name__ == "__main__":

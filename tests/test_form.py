@@ -36,6 +36,16 @@ INTERFACE = {
                **{name: None for name in """sees many_orders has_seen is_serial_order is_ring first_failure ties
                   lost_updates serial_order ring worths_behind prefix""".split()}},
     "vacuum": {name: None for name in "needed is_kept_right harm takeable sweep".split()},
+    "store": {"Store": """begin stands_at last lasting sweep vacuum debt get between versions put drop abort force
+                        checkpoint commit commit_soon open_ones now open_snapshots dirty write_out disk ties_of_now""",
+              "new_store": None},
+    "histories": {"history_text": None, "read_history": None},
+    "tongue": {"Program": "__init__ __eq__"},
+    "running": {"Hand": "asks said give copy", "plain_run": None},
+    "parsing": {"program_text": None, "read_program": None},
+    "clients": {"played": None, "is_right_account": None},
+    "desk": {"Desk": "tell", "tale": None},
+    "recovery": {name: None for name in "pages_of meaning prefix_of commits_of".split()},
 }
 
 
