@@ -1,16 +1,15 @@
-"""Plays by point 13, written apart from the package: led step by step over a store beside plain dicts, with programs run
-by the test's own hands; and a judge of accounts, word by word."""
+"""Plays by point 13, written apart from the package: led step by step over a store beside plain dicts, with programs
+run by the test's own hands; and a judge of accounts, word by word."""
 
 from wholecommits.judges import Dealing
-from wholecommits.store import Store, new_store
+from wholecommits.store import new_store
+from wholecommits.tongue import Program
 from tests.dealing_rules import row_of, ties_of
 from tests.log_rules import pages_in, written
-from tests.lying_rules import last_lying, versions_lying
-from tests.store_rules import Beside
+from tests.store_rules import Beside, opened_behind_cut
 from tests.test_dealings import plain_history
 from tests.things import plain_integer, plain_lot
 from tests.tongue_rules import Plain, drawn_program_block, is_end, run_due
-from wholecommits.tongue import Program
 
 
 class Client:
@@ -116,15 +115,8 @@ class Led:
         for block in lot:
             while block in disk.waiting():
                 disk.reach(block)
-        lasting = self.beside.lasting()
-        disk.cut()
-        last = last_lying(disk)
-        self.case.assertTrue(lasting <= last <= self.beside.last())
-        versions = {}
-        for (key, commit), mark in versions_lying(disk).items():
-            versions.setdefault(key, {})[commit] = mark
-        self.beside = Beside(self.case, Store(disk), self.beside.dicts[:last + 1], versions)
-        self.beside.compare()
+        self.beside = opened_behind_cut(self.beside)
+        last = self.beside.last()
         for client in self.clients:
             if client.end == "on" and client.number is not None:
                 client.loses("lost")
@@ -213,7 +205,7 @@ def some_transaction(draw, keys):
 
     def number():
         return draw.choice([("num", draw.randrange(-2, 5)), ("+", ("*", ("=", ("name", "x"), ("num", 1)), ("num", 3)),
-                                                           ("num", 1))])
+                                                             ("num", 1))])
     block = []
     for _ in range(draw.randrange(1, 6)):
         word = draw.choice("get get add put put drop for say if fail while".split())
@@ -251,7 +243,8 @@ def drawn_play(draw, steps, keys="abcd"):
     kinds = draw.choice(["go go go go soon soon soon out reach force vacuum check cut",
                          "go go go soon soon", "soon soon soon soon soon soon soon soon reach reach out cut",
                          "go soon go soon go soon cut"]).split()
-    return tuple(programs), tuple(drawn_step(draw, draw.choice(kinds), len(programs)) for _ in range(steps)), draw.randrange(4)
+    return tuple(programs), tuple(drawn_step(draw, draw.choice(kinds),
+                                             len(programs)) for _ in range(steps)), draw.randrange(4)
 
 
 def drawn_step(draw, word, clients):

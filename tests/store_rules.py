@@ -3,9 +3,11 @@ seen and written, by points 8.2, 8.3, 10 and 11, written apart from the package.
 
 from wholecommits.errors import NoRoom, Refused, TooLarge
 from wholecommits.pages import Pages
+from wholecommits.store import Store
 from wholecommits.versions import take_version, write_all
 from tests.dealing_rules import Row, ring_by_distance, tied
 from tests.log_rules import pages_in, prefix_in, written
+from tests.lying_rules import last_lying, versions_lying
 from tests.test_vacuum import plain_needed
 
 KEYS = ["a", "aa", "b", "c", "ca", "d", "m", "z" * 12]
@@ -312,6 +314,31 @@ class Beside:
         case.assertEqual(store.ties_of_now(), (self.remembered(), tuple(sorted(self.open))))
         case.assertEqual(store.dirty(), pages_in(written(self.disk))[2])
         case.assertIs(store.disk(), self.disk)
+
+
+def opened_behind_cut(beside):
+    """Cut the disk of a store; returns the new store beside what is left of the commits."""
+    lasting = beside.lasting()
+    beside.disk.cut()
+    last = last_lying(beside.disk)
+    beside.case.assertTrue(lasting <= last <= beside.last())
+    versions = {}
+    for (key, commit), mark in versions_lying(beside.disk).items():
+        versions.setdefault(key, {})[commit] = mark
+    opened = Beside(beside.case, Store(beside.disk), beside.dicts[:last + 1], versions)
+    opened.compare()
+    return opened
+
+
+def put_all(store, worths, soon=False):
+    """Commit one transaction that puts a dict, dropping keys for None; returns what the commit returns."""
+    number = store.begin()
+    for key, worth in worths.items():
+        if worth is None:
+            store.drop(number, key)
+        else:
+            store.put(number, key, worth)
+    return store.commit_soon(number) if soon else store.commit(number)
 
 
 def one_deed(draw, beside, most_open=5, keys=KEYS):

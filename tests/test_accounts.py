@@ -89,9 +89,10 @@ class Accounts(unittest.TestCase):
     def test_an_ask_or_an_answer(self):
         told = self.account["commits"][3][2]
         self.assertEqual(told, ((("get", "a"), None), (("put", "a", 1), None)))
-        for other in (((("get", "b"), None), told[1]), ((("get", "a"), 0), told[1]), ((("get", "a"), None), (("put", "a", 2), None)),
-                      (told[0],), (), (*told, told[1]), (told[1], told[0]), list(told), (told[0], (("put", "a", 1), 1)),
-                      (told[0], (("drop", "a"), None)), (told[0], told[1][:1]), None, (list(told[0]), told[1])):
+        for other in (((("get", "b"), None), told[1]), ((("get", "a"), 0), told[1]),
+                      ((("get", "a"), None), (("put", "a", 2), None)), (told[0],), (), (*told, told[1]),
+                      (told[1], told[0]), list(told), (told[0], (("put", "a", 1), 1)), (told[0], (("drop", "a"), None)),
+                      (told[0], told[1][:1]), None, (list(told[0]), told[1])):
             self.wrong(with_commit(self.account, 3, 2, other))
         told = self.account["commits"][4][2]
         self.assertEqual(told[0], (("range", "a", "z"), (("a", 1), ("b", 3))))
@@ -142,7 +143,8 @@ class Accounts(unittest.TestCase):
         programs = (Program((("get", "n", B), ("put", A, ONE))), Program((("get", "n", A), ("put", B, ONE))))
         rows = [(0, one, ((("get", "b"), None), (("put", "a", 1), None)), True),
                 (1, other, ((("get", "a"), None), (("put", "b", 1), None)), True)]
-        account = {"commits": rows, "forced": (), "cuts": [], "refused": [], "ends": (), "said": (), "state": {"a": 1, "b": 1}}
+        account = {"commits": rows, "forced": (), "cuts": [], "refused": [], "ends": (), "said": (),
+                   "state": {"a": 1, "b": 1}}
         self.assertIs(self.judged(account, (programs, (), 0)), False)
         lone = {**account, "commits": rows[:1], "state": {"a": 1}}
         self.assertIs(self.judged(lone, (programs, (), 0)), True)
@@ -175,8 +177,10 @@ class Accounts(unittest.TestCase):
     def test_cuts(self):
         first, second = self.account["cuts"]
         for cuts in ([second], [second, first], [], [first, second, (5, 2, ())], [first, second, (5, 2, (4,))],
-                     [(2, 1, (1,)), second], [(3, 0, (1, 2)), second], [(3, 0, (0, 1, 2)), second], [(3, 2, (1, 2)), second],
-                     [(3, 1, (1,)), second], [(3, 1, ()), second], [(3, 1, (1, 2, 3)), second], [(3, 1, [1, 2]), second],
+                     [(2, 1, (1,)), second], [(3, 0, (1, 2)), second], [(3, 0, (0, 1, 2)), second],
+                     [(3, 2, (1, 2)), second],
+                     [(3, 1, (1,)), second], [(3, 1, ()), second], [(3, 1, (1, 2, 3)), second],
+                     [(3, 1, [1, 2]), second],
                      [(4, 1, (1, 2)), second], [(3, 1, (2, 1)), second], [first, (5, 3, (4,))], [first, (2, 3, ())],
                      [first, (6, 3, ())], [first, (5, 1, ())], [first, (5, -1, ())], [first, (5, None, ())],
                      [(3, 1, (1, 2), 0), second], [list(first), second], (first, second), {first: second}, None,
@@ -193,8 +197,8 @@ class Accounts(unittest.TestCase):
                 self.wrong(with_commit(self.account, at, 3, thing))
 
     def test_the_state(self):
-        for state in ({}, {"a": 2}, {"a": 2, "b": 3}, {"a": 2, "b": 4, "c": 0}, {"b": 2, "a": 4}, [("a", 2), ("b", 4)], None,
-                      {"a": 2, "b": "4"}, {"a": 2, "b": None}, (("a", 2), ("b", 4))):
+        for state in ({}, {"a": 2}, {"a": 2, "b": 3}, {"a": 2, "b": 4, "c": 0}, {"b": 2, "a": 4}, [("a", 2), ("b", 4)],
+                      None, {"a": 2, "b": "4"}, {"a": 2, "b": None}, (("a", 2), ("b", 4))):
             self.wrong(with_part(self.account, "state", state))
         self.right(with_part(self.account, "state", {"b": 4, "a": 2}))
 
@@ -261,7 +265,8 @@ def changed_row(draw, part, row):
     if which == 2 and told:
         at = draw.randrange(len(told))
         ask, answer = told[at]
-        return replaced(row, 2, replaced(told, at, draw.choice([(("get", "a"), answer), (ask, 1), (ask, ()), (ask, None)])))
+        return replaced(row, 2, replaced(told, at, draw.choice([(("get", "a"), answer), (ask, 1), (ask, ()),
+                                                                (ask, None)])))
     snapshot = max(0, dealing.snapshot + draw.choice([-1, 0, 1]))
     number = dealing.number
     if number is not None:

@@ -2,20 +2,20 @@ import random
 import unittest
 
 from wholecommits.desk import Desk, tale
-from wholecommits.errors import (BadDisk, InUse, NoBlock, NoLine, NoLines, NoName, NoNumber, NoPage, NoRoom, NothingWaits,
-                                 Refused, StoreError, TooLarge)
-from wholecommits.store import Store, new_store
+from wholecommits.errors import (BadDisk, InUse, NoBlock, NoLine, NoLines, NoName, NoNumber, NoPage, NoRoom,
+                                 NothingWaits, Refused, StoreError, TooLarge)
+from wholecommits.store import new_store
 from tests.log_rules import pages_in, written
-from tests.lying_rules import last_lying, versions_lying
-from tests.store_rules import KEYS, WORTHS, Beside
+from tests.store_rules import KEYS, WORTHS, Beside, opened_behind_cut
 from tests.things import plain_integer, plain_key, things
 from tests.tongue_rules import RESERVED, plain_name
 
 BOUND = 10 ** 18
 NAMES = ["t", "u", "v", "name"]
-FORMS = {"begin": "T", "get": "TK", "put": "TKW", "drop": "TK", "range": "TKK", "abort": "T", "commit": "T", "soon": "T",
-         "snapshot": "T", "show": "K", "state": "", "versions": "K", "debt": "", "sweep": "N", "vacuum": "", "force": "",
-         "check": "", "dirty": "", "out": "N", "reach": "N", "last": "", "lasting": "", "cut": ""}
+FORMS = {"begin": "T", "get": "TK", "put": "TKW", "drop": "TK", "range": "TKK", "abort": "T", "commit": "T",
+         "soon": "T", "snapshot": "T", "show": "K", "state": "", "versions": "K", "debt": "", "sweep": "N",
+         "vacuum": "", "force": "", "check": "", "dirty": "", "out": "N", "reach": "N", "last": "", "lasting": "",
+         "cut": ""}
 SAMPLES = {"T": "t", "K": "a", "W": "-5", "N": "1"}
 
 
@@ -151,20 +151,9 @@ class Model:
                 return NothingWaits
             beside.disk.reach(int(parts[0]))
         if word == "cut":
-            self.cut()
+            self.beside = opened_behind_cut(beside)
+            self.numbers = {}
         return "ok"
-
-    def cut(self):
-        disk = self.beside.disk
-        lasting = self.beside.lasting()
-        disk.cut()
-        last = last_lying(disk)
-        self.case.assertTrue(lasting <= last <= self.beside.last())
-        versions = {}
-        for (key, commit), mark in versions_lying(disk).items():
-            versions.setdefault(key, {})[commit] = mark
-        self.beside = Beside(self.case, Store(disk), self.beside.dicts[:last + 1], versions)
-        self.numbers = {}
 
 
 class Desks(unittest.TestCase):
@@ -203,24 +192,28 @@ class Desks(unittest.TestCase):
         for seed in range(40):
             draw = random.Random(seed)
             blocks, ring = draw.choice([(60, 4), (16, 8), (30, 20)])
+            keys = [one + other for one in "abcdefg" for other in "abcdefg"]
+            lines = []
+            for _ in range(6):
+                lines.append("begin t")
+                lines += [f"put t {key} {draw.choice(WORTHS)}" for key in draw.sample(keys, draw.choice([3, 9, 30]))]
+                lines += [draw.choice(["commit t", "soon t"]), "state", "lasting", "last", "sweep 1000", "vacuum",
+                          "dirty", draw.choice(["abort t", "commit t"])]
             desk = Desk(blocks, ring)
             model = Model(self, blocks, ring)
-            for _ in range(6):
-                self.tell(desk, model, "begin t")
-                for key in draw.sample([one + other for one in "abcdefg" for other in "abcdefg"], draw.choice([3, 9, 30])):
-                    self.tell(desk, model, f"put t {key} {draw.choice(WORTHS)}")
-                for line in (draw.choice(["commit t", "soon t"]), "state", "lasting", "last", "sweep 1000", "vacuum", "dirty"):
-                    told = self.tell(desk, model, line)
-                    found[told] = found.get(told, 0) + 1
-                self.tell(desk, model, draw.choice(["abort t", "commit t"]))
+            told = [self.tell(desk, model, line) for line in lines]
+            self.assertEqual(tale(blocks, ring, lines), told)
+            for word in told:
+                found[word] = found.get(word, 0) + 1
         self.assertGreater(min(found["(TooLarge)"], found["(NoRoom)"]), 10)
 
     def test_one_by_hand(self):
-        lines = ["begin t", "get t a", "put t a 5", "put t b -7", "drop t c", "get t a", "range t a z", "snapshot t", "state",
-                 "commit t", "state", "show a", "show c", "versions c", "versions q", "begin t", "begin u", "snapshot u",
-                 "drop t a", "soon t", "last", "lasting", "show a", "get u a", "range u c d", "versions a", "debt", "commit u",
-                 "debt", "dirty", "out 0", "out 0", "dirty", "lasting", "vacuum", "versions a", "versions c", "sweep 5",
-                 "cut", "versions c", "state", "begin u", "commit u", "force", "check", "dirty", "reach 0"]
+        lines = ["begin t", "get t a", "put t a 5", "put t b -7", "drop t c", "get t a", "range t a z", "snapshot t",
+                 "state", "commit t", "state", "show a", "show c", "versions c", "versions q", "begin t", "begin u",
+                 "snapshot u", "drop t a", "soon t", "last", "lasting", "show a", "get u a", "range u c d",
+                 "versions a", "debt", "commit u", "debt", "dirty", "out 0", "out 0", "dirty", "lasting", "vacuum",
+                 "versions a", "versions c", "sweep 5", "cut", "versions c", "state", "begin u", "commit u", "force",
+                 "check", "dirty", "reach 0"]
         self.assertEqual(tale(64, 24, lines), [
             "ok", "none", "ok", "ok", "ok", "5", "a=5 b=-7", "0", "none",
             "1", "a=5 b=-7", "5", "none", "1=none", "none", "ok", "ok", "1",
@@ -229,10 +222,10 @@ class Desks(unittest.TestCase):
             "ok", "1=none", "b=-7", "ok", "none", "ok", "ok", "none", "(NothingWaits)"])
 
     def test_refused(self):
-        lines = ["begin t", "begin u", "get t a", "put t b 1", "get u b", "put u a 1", "commit t", "commit u", "get u a",
-                 "soon u", "abort u", "abort u", "state"]
-        self.assertEqual(tale(64, 24, lines), ["ok", "ok", "none", "ok", "none", "ok", "1", "(Refused)", "1", "(Refused)", "ok",
-                                               "(NoName)", "b=1"])
+        lines = ["begin t", "begin u", "get t a", "put t b 1", "get u b", "put u a 1", "commit t", "commit u",
+                 "get u a", "soon u", "abort u", "abort u", "state"]
+        self.assertEqual(tale(64, 24, lines), ["ok", "ok", "none", "ok", "none", "ok", "1", "(Refused)", "1",
+                                               "(Refused)", "ok", "(NoName)", "b=1"])
         desk = Desk(64, 24)
         for line in lines[:7]:
             desk.tell(line)
@@ -241,9 +234,9 @@ class Desks(unittest.TestCase):
         self.assertEqual(caught.exception.ring, (1, 0))
 
     def test_a_cut(self):
-        lines = ["begin t", "put t a 1", "soon t", "begin t", "put t a 2", "commit t", "begin u", "put u a 3", "soon u", "begin t",
-                 "cut", "last", "lasting", "state", "get t a", "commit u", "begin t", "snapshot t", "put t a 9", "soon t",
-                 "reach 3", "cut", "state", "last"]
+        lines = ["begin t", "put t a 1", "soon t", "begin t", "put t a 2", "commit t", "begin u", "put u a 3", "soon u",
+                 "begin t", "cut", "last", "lasting", "state", "get t a", "commit u", "begin t", "snapshot t",
+                 "put t a 9", "soon t", "reach 3", "cut", "state", "last"]
         self.assertEqual(tale(64, 24, lines), [
             "ok", "ok", "1", "ok", "ok", "2", "ok", "ok", "3", "ok",
             "ok", "2", "2", "a=2", "(NoName)", "(NoName)", "ok", "2", "ok", "3", "ok", "ok", "a=9", "3"])
@@ -310,16 +303,18 @@ class Desks(unittest.TestCase):
         self.assertEqual(desk.tell("range t b a"), "none")
 
     def test_worths_and_numbers(self):
-        for word, right in (("0", True), ("-0", False), ("00", False), ("01", False), ("-1", True), ("--1", False), ("+1", False),
-                            (str(BOUND), True), (str(-BOUND), True), (str(BOUND + 1), False), (str(-BOUND - 1), False),
-                            ("1" * 400, False), ("1" * 5000, False), ("", False), ("x", False), ("1.", False), ("1_0", False),
-                            ("none", False)):
+        for word, right in (("0", True), ("-0", False), ("00", False), ("01", False), ("-1", True), ("--1", False),
+                            ("+1", False), (str(BOUND), True), (str(-BOUND), True), (str(BOUND + 1), False),
+                            (str(-BOUND - 1), False), ("1" * 400, False), ("1" * 5000, False), ("", False),
+                            ("x", False), ("1.", False), ("1_0", False), ("none", False)):
             told = tale(64, 24, ["begin t", f"put t a {word}", "get t a"])
             self.assertEqual(told[1:], ["ok", word] if right else ["(NoLine)", "none"])
-        for word, told in (("0", "(NoNumber)"), ("1", "0"), ("1000", "0"), ("1001", "(NoNumber)"), (str(BOUND), "(NoNumber)"),
-                           (str(BOUND + 1), "(NoLine)"), ("-1", "(NoLine)"), ("-0", "(NoLine)"), ("01", "(NoLine)")):
+        for word, told in (("0", "(NoNumber)"), ("1", "0"), ("1000", "0"), ("1001", "(NoNumber)"),
+                           (str(BOUND), "(NoNumber)"), (str(BOUND + 1), "(NoLine)"), ("-1", "(NoLine)"),
+                           ("-0", "(NoLine)"), ("01", "(NoLine)")):
             self.assertEqual(tale(64, 24, [f"sweep {word}"]), [told])
-            self.assertEqual(tale(64, 24, [f"out {word}"]), ["no" if word == "0" else told if told == "(NoLine)" else "(NoPage)"])
+            self.assertEqual(tale(64, 24, [f"out {word}"]),
+                             ["no" if word == "0" else told if told == "(NoLine)" else "(NoPage)"])
             self.assertEqual(tale(64, 24, [f"reach {word}"]),
                              [told if told == "(NoLine)" else "(NothingWaits)" if word in ("0", "1") else "(NoBlock)"])
         self.assertEqual(tale(64, 24, ["reach 63", "reach 64"]), ["(NothingWaits)", "(NoBlock)"])
@@ -341,8 +336,9 @@ class Desks(unittest.TestCase):
 
 def drawn_line(draw):
     """A line of any form, now and then with a sign, or a blank, that is wrong."""
-    word = draw.choice("""begin begin begin begin get get put put put put drop range commit commit soon soon abort snapshot show
-                          state versions debt sweep vacuum force check dirty out out reach reach last lasting cut""".split())
+    word = draw.choice("""begin begin begin begin get get put put put put drop range commit commit soon soon abort
+                          snapshot show state versions debt sweep vacuum force check dirty out out reach reach last
+                          lasting cut""".split())
     if word == "cut" and draw.random() < 0.7:
         word = "commit"
     parts = {"T": lambda: draw.choice(NAMES), "K": lambda: draw.choice(KEYS[:5]), "W": lambda: str(draw.choice(WORTHS)),

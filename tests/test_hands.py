@@ -123,7 +123,8 @@ class Hands(unittest.TestCase):
 
     def test_asks(self):
         hand = Hand(Program((("get", "n", A), ("put", ("key", "b"), ("+", name("n"), ONE)), ("drop", A),
-                             ("for", "k", "w", A, Z, (("put", name("k"), ("*", name("w"), num(2))),)), ("say", name("k")))))
+                             ("for", "k", "w", A, Z, (("put", name("k"), ("*", name("w"), num(2))),)),
+                             ("say", name("k")))))
         self.assertEqual(hand.asks(), ("get", "a"))
         self.assertIsNone(hand.give(4))
         self.assertEqual(hand.asks(), ("put", "b", 5))
@@ -141,13 +142,15 @@ class Hands(unittest.TestCase):
     def test_ranges(self):
         rows = (("say", name("k")), ("say", name("w")))
         state = {"a": 1, "b": 2, "d": 4}
-        for block, said in (
-                ((("for", "k", "w", A, ("key", "c"), rows),), ("a", 1, "b", 2)),
-                ((("for", "k", "w", ("key", "b"), ("key", "d"), rows),), ("b", 2, "d", 4)),
-                ((("for", "k", "w", Z, A, rows),), ()), ((("for", "w", "w", A, Z, (("say", name("w")),)),), (1, 2, 4)),
-                ((("for", "k", "w", A, A, ()), *rows), ("a", 1)), ((("for", "k", "w", Z, Z, ()), *rows), (None, None)),
-                ((("for", "k", "w", A, Z, (("let", "w", num(9)), ("let", "k", num(8)))), *rows), (8, 9)),
-                ((("for", "k", "w", A, Z, (("drop", name("k")), ("put", Z, num(7)), *rows)),), ("a", 1, "b", 2, "d", 4))):
+        for block, said in (((("for", "k", "w", A, ("key", "c"), rows),), ("a", 1, "b", 2)),
+                            ((("for", "k", "w", ("key", "b"), ("key", "d"), rows),), ("b", 2, "d", 4)),
+                            ((("for", "k", "w", Z, A, rows),), ()), ((("for", "w", "w", A, Z, (("say", name("w")),)),),
+                                                                     (1, 2, 4)),
+                            ((("for", "k", "w", A, A, ()), *rows), ("a", 1)),
+                            ((("for", "k", "w", Z, Z, ()), *rows), (None, None)),
+                            ((("for", "k", "w", A, Z, (("let", "w", num(9)), ("let", "k", num(8)))), *rows), (8, 9)),
+                            ((("for", "k", "w", A, Z, (("drop", name("k")), ("put", Z, num(7)), *rows)),),
+                             ("a", 1, "b", 2, "d", 4))):
             self.assertEqual(plain_run(Program(block), state)[:2], ("over", said))
         hand = Hand(Program((("for", "k", "w", Z, A, ()),)))
         self.assertEqual(hand.asks(), ("range", "z", "a"))
@@ -168,8 +171,8 @@ class Hands(unittest.TestCase):
     def test_rounds_of_a_while(self):
         for most in (1, 2, 99, 100):
             for start in (0, 1, 2, 3, 98, 99, 100, 101):
-                block = (("let", "x", num(start)), ("while", name("x"), most, (more("x", -1),
-                                                          ("say", name("x")))), ("say", name("x")))
+                block = (("let", "x", num(start)), ("while", name("x"), most, (more("x", -1), ("say", name("x")))),
+                         ("say", name("x")))
                 word, said, _ = plain_run(Program(block), {})
                 rounds = min(start, most)
                 self.assertEqual((word, len(said), said[-1]), ("over", rounds + 1, start - rounds))
@@ -316,11 +319,20 @@ class Hands(unittest.TestCase):
             for one in (hand, other):
                 one.give(5)
                 self.assertEqual(one.asks(), (word,))
+        begins = (("get", "x", A), *block[:1], ("get", "x", A), *block[2:-1])
+        for extra, word in (((), "over"), ((("say", ONE),), "long")):
+            hand = Hand(Program(begins + extra))
+            hand.give(5)
+            other = hand.copy()
+            for one in (hand, other, other.copy()):
+                one.give(5)
+                self.assertEqual(one.asks(), (word,))
 
     def test_no_state(self):
         program = Program((("fail",),))
         for thing in [*things(), {"a": None}, {"a": True}, {1: 1}, {"A": 1}, {"a": BOUND + 1}, [("a", 1)], {"a": "b"}]:
-            right = type(thing) is dict and all(plain_key(key) and plain_integer(thing[key], -BOUND, BOUND) for key in thing)
+            right = type(thing) is dict and all(plain_key(key) and plain_integer(worth, -BOUND, BOUND)
+                                                for key, worth in thing.items())
             if right:
                 self.assertEqual(plain_run(program, thing), ("failed", (), thing))
             else:

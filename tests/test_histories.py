@@ -193,19 +193,24 @@ class Texts(unittest.TestCase):
 
     def test_forms(self):
         for line in ("deal 0", "deal", "deal 0 0 0", "deal  0 -", "deal 0 -  ", " deal 0 -", "deal 0 - ", "Deal 0 -",
-                     "deal -1 -", "deal +1 -", "deal 01 -", "deal 00 -", "deal - 1", "deal - -", "deal 0 --", "deal 0 -1",
+                     "deal -1 -", "deal +1 -", "deal 01 -", "deal 00 -", "deal - 1", "deal - -", "deal 0 --",
+                     "deal 0 -1",
                      "deal 0 01", "deal 0 1.0", "deal x 1", "deal 0 None", "deal 1_0 -", "deal 0x1 -", "deal 0 +",
-                     "deal " + "9" * 21 + " -", "deal 0 " + "1" * 21, "deal 0 " + "1" * 5000, "dealing 0 -", "deals 0 -"):
+                     "deal " + "9" * 21 + " -", "deal 0 " + "1" * 21, "deal 0 " + "1" * 5000, "dealing 0 -",
+                     "deals 0 -"):
             self.bad(line + "\n", 1)
-        for line in ("saw", "saw ", "saw A", "saw a b", "saw a1", "saw " + "a" * 13, " saw a", "saw  a", "saw a ", "see a",
-                     "range a", "range", "range a b c", "range a b but", "range a b but ", "range a b but  c", "range A b",
-                     "range a b but B", "range a b but b  c", "range a b BUT b", "range a b and b", "range  a b",
-                     "put a", "put a ", "put a 01", "put a -0", "put a +1", "put a 1 ", "put  a 1", "put a 1 1", "put A 1",
-                     "put a None", "put a none", "put a -", "put a --1", "put a 1_0", f"put a {10 ** 18 + 1}",
-                     f"put a {-10 ** 18 - 1}", "put a " + "1" * 20, "put a " + "0" * 2, "put a " + "9" * 6000, "drop", "drop a 1",
-                     "drop a None", "drop ", "drop A", "Drop a", "", " ", "-", "but a"):
+            self.bad("deal 0 -\n" + line + "\nnothing\n", 2)
+        for line in ("saw", "saw ", "saw A", "saw a b", "saw a1", "saw " + "a" * 13, " saw a", "saw  a", "saw a ",
+                     "see a", "range a", "range", "range a b c", "range a b but", "range a b but ", "range a b but  c",
+                     "range A b", "range a b but B", "range a b but b  c", "range a b BUT b", "range a b and b",
+                     "range  a b", "put a", "put a ", "put a 01", "put a -0", "put a +1", "put a 1 ", "put  a 1",
+                     "put a 1 1", "put A 1", "put a None", "put a none", "put a -", "put a --1", "put a 1_0",
+                     f"put a {10 ** 18 + 1}", f"put a {-10 ** 18 - 1}", "put a " + "1" * 20, "put a " + "0" * 2,
+                     "put a " + "9" * 6000, "drop", "drop a 1", "drop a None", "drop ", "drop A", "Drop a", "", " ",
+                     "-", "but a"):
             self.bad("deal 0 1\n" + line + "\n", 2)
-        for line in ("put a 0", f"put a {10 ** 18}", f"put a {-10 ** 18}", "put but -1", "drop put", "put " + "a" * 12 + " 5"):
+        for line in ("put a 0", f"put a {10 ** 18}", f"put a {-10 ** 18}", "put but -1", "drop put",
+                     "put " + "a" * 12 + " 5"):
             self.assertEqual(len(self.check("deal 0 1\n" + line + "\n")), 1)
         for line in ("saw saw", "saw " + "a" * 12, "range but but but but", "range a z but but", "range deal saw"):
             self.assertEqual(len(self.check("deal 0 -\n" + line + "\n")), 1)
@@ -227,6 +232,8 @@ class Texts(unittest.TestCase):
 
     def test_parts_of_dealings_come_behind_all_lines(self):
         self.bad("deal 0 -\ndeal 0 -\nput a 1\n", 2)
+        self.bad("deal 0 0\nput a 1\nnothing\n", 3)
+        self.bad("deal 0 0\nput a 1\ndeal 0 -\n", 1)
         self.bad("deal 0 1\ndeal 0 -\nput a 1\nsaw b\n", 4)
         self.bad("deal 0 1\ndeal 0 -\nput a 1\n", 1)
         self.bad("deal 5 5\nput a 1\n", 1)

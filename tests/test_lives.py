@@ -10,20 +10,10 @@ from wholecommits.recovery import commits_of, meaning
 from wholecommits.store import Store, new_store
 from tests.lying_rules import dict_lying
 from tests.play_rules import drawn_play
-from tests.store_rules import KEYS, Beside, one_deed
+from tests.store_rules import KEYS, Beside, one_deed, put_all
 from tests.test_store_power import KEYS as LIFE_KEYS, Life, state_of
 
 GREAT_KEYS = [a + b + c for a in "abcdefg" for b in "abcdefg" for c in "abcdefg"]
-
-
-def put_all(store, worths, soon=False):
-    number = store.begin()
-    for key, worth in worths.items():
-        if worth is None:
-            store.drop(number, key)
-        else:
-            store.put(number, key, worth)
-    return store.commit_soon(number) if soon else store.commit(number)
 
 
 class Lives(unittest.TestCase):
@@ -72,7 +62,8 @@ class Lives(unittest.TestCase):
         """A store with two great commits, the second of which was not forced."""
         store = new_store(560, 130)
         put_all(store, {key: draw.randrange(99) for key in draw.sample(GREAT_KEYS, 220)})
-        put_all(store, {key: draw.choice([None, draw.randrange(99)]) for key in draw.sample(GREAT_KEYS, 180)}, soon=True)
+        put_all(store, {key: draw.choice([None, draw.randrange(99)]) for key in draw.sample(GREAT_KEYS, 180)},
+                soon=True)
         return store
 
     def test_great_commits_cut_behind_each_write(self):

@@ -97,7 +97,8 @@ class Plays(unittest.TestCase):
         self.assertEqual((account["forced"], account["ends"], account["state"]), ((0,), ("over", "over"), {"a": 1}))
 
     def test_a_program_without_asks(self):
-        account = self.check(40, 8, ((Program(()), Program((("say", ONE), ("fail",)))), steps("go0", "soon1", "go0"), 2))
+        account = self.check(40, 8, ((Program(()), Program((("say", ONE), ("fail",)))), steps("go0", "soon1", "go0"),
+                                     2))
         self.assertEqual((account["commits"], account["ends"], account["said"]),
                          ([(0, Dealing(0, None, (), (), ()), (), True)], ("over", "failed"), ((), (1,))))
 
@@ -197,6 +198,35 @@ class Plays(unittest.TestCase):
             self.assertEqual(led.beside.store.debt(), left)
             self.check(80, ring, play)
 
+    def test_what_a_vacuum_takes_is_told_by_a_full_log(self):
+        """The log is full behind four commits: a record of a vacuum makes them last; none comes where nothing goes.
+
+        What goes is a version that the one with an open transaction alone still sees, so it has to be given up.
+        """
+        def put(letter):
+            return Program((("put", ("key", letter), ONE),))
+        fails = Program((("get", "n", A), ("fail",)))
+        seen_b = Program((("get", "n", B), ("put", A, ONE)))
+        seen_a = Program((("get", "n", A), ("put", B, ONE)))
+        for programs, words, ends in (
+                ((PUT_A, fails, PUT_A, put("c"), put("d")), "go1 go2 soon2 go3 soon3 go4 soon4 go1", "failed"),
+                ((PUT_A, seen_b, seen_a, PUT_A, put("d")), "go1 go2 go2 soon2 go1 go1 go3 soon3 go4 soon4", "refused"),
+                ((PUT_A, MANY, PUT_A, put("c"), put("d")), "go1 " * 64 + "go2 soon2 go3 soon3 go4 soon4 go1", "full")):
+            for words_behind, last in (("vacuum", 4), ("", 0)):
+                schedule = steps("go0", "soon0", *words.split(), *words_behind.split()) + (("cut", ()),)
+                account = self.check(64, 4, (programs, schedule, 0))
+                self.assertEqual((account["ends"][1], account["cuts"][0][1]), (ends, last))
+        held = Program((("get", "n", A), ("get", "n", A)))
+        schedule = steps("go0", "soon0", "go1", "go2", "soon2", "go3", "soon3", "go4", "soon4",
+                         "vacuum") + (("cut", ()),)
+        account = self.check(64, 4, ((PUT_A, held, PUT_A, put("c"), put("d")), schedule, 0))
+        self.assertEqual((account["ends"][1], account["cuts"][0][1]), ("lost", 0))
+
+    def test_keys_that_are_words(self):
+        for word in ("over", "failed", "get", "none"):
+            program = Program((("get", "n", ("key", word)), ("put", ("key", word), ONE)))
+            self.assertEqual(self.check(40, 8, ((program,), (("go", 0),) * 3, 0))["state"], {word: 1})
+
     def test_lists_that_were_returned_may_be_changed(self):
         play = ((PUT_A, COPY_AB, COPY_BA), steps("go0", "soon0", "go1", "go2", "go1", "go2", "go1", "go2")
                 + (("cut", ()),) + steps("go1"), 1)
@@ -248,14 +278,15 @@ class Wrong(unittest.TestCase):
         self.assertIsNone(self.check(((PUT_A,) * 6, (("force",),) * 400, 5)))
 
     def test_steps(self):
-        for step, right in ((("go", 1), True), (("go", 2), False), (("go", -1), False), (("go", True), False), (("go",), False),
-                            (("soon", 1), True), (("soon", 2), False), (("out", 0), True), (("out", BOUND), True),
-                            (("out", BOUND + 1), False), (("reach", BOUND), True), (("reach", BOUND + 1), False),
-                            (("reach", -1), False), (("cut", ()), True), (("cut", (0, 5, BOUND)), True),
-                            (("cut", (0, BOUND + 1)), False), (("cut", (5, 0)), False), (("cut", [0]), False),
-                            (("cut", 0), False), (("cut",), False), (("force", 0), False), (("check", ()), False),
-                            (["force"], False), (("force",), True), (("vacuum",), True), (("check",), True), (("go", 0, 0), False),
-                            ((), False), ("force", False), (("cut", (True,)), False), (("Force",), False)):
+        for step, right in ((("go", 1), True), (("go", 2), False), (("go", -1), False), (("go", True), False),
+                            (("go",), False), (("soon", 1), True), (("soon", 2), False), (("out", 0), True),
+                            (("out", BOUND), True), (("out", BOUND + 1), False), (("reach", BOUND), True),
+                            (("reach", BOUND + 1), False), (("reach", -1), False), (("cut", ()), True),
+                            (("cut", (0, 5, BOUND)), True), (("cut", (0, BOUND + 1)), False), (("cut", (5, 0)), False),
+                            (("cut", [0]), False), (("cut", 0), False), (("cut",), False), (("force", 0), False),
+                            (("check", ()), False), (["force"], False), (("force",), True), (("vacuum",), True),
+                            (("check",), True), (("go", 0, 0), False), ((), False), ("force", False),
+                            (("cut", (True,)), False), (("Force",), False)):
             self.assertEqual(self.check(((PUT_A, PUT_A), (("force",), step), 0)), None if right else 1, step)
 
     def test_bad_disks_come_first(self):

@@ -47,9 +47,11 @@ class Texts(unittest.TestCase):
 
     def test_one_by_hand(self):
         block = (("get", "n", ("key", "a")), ("let", "x", ("not", ("<", ("name", "n"), ("num", -5)))),
-                 ("for", "k", "k", ("key", "a"), ("name", "n"), (("put", ("name", "k"), ("mod", ("num", 7), ("num", 3))),
-                                                               ("if", ("num", 0), (), (("fail",),)))),
-                 ("while", ("name", "x"), 100, (("say", ("key", "or")), ("if", ("num", 1), (("drop", ("key", "b")),), ()))))
+                 ("for", "k", "k", ("key", "a"), ("name", "n"), (("put", ("name", "k"),
+                                                                  ("mod", ("num", 7), ("num", 3))),
+                                                                 ("if", ("num", 0), (), (("fail",),)))),
+                 ("while", ("name", "x"), 100, (("say", ("key", "or")),
+                                                ("if", ("num", 1), (("drop", ("key", "b")),), ()))))
         text = ("get n 'a'\nlet x (not (n < -5))\nfor k k 'a' n do\nput k (7 mod 3)\nif 0 do\nelse\nfail\nend\nend\n"
                 "while x most 100 do\nsay 'or'\nif 1 do\ndrop 'b'\nend\nend\n")
         self.assertEqual(program_text(Program(block)), text)
@@ -95,17 +97,21 @@ class Texts(unittest.TestCase):
 
     def test_blanks(self):
         for line in ("let  x 1", " let x 1", "let x 1 ", "let x  1", "say ( x + 1)", "say (x + 1 )", "say (x  + 1)",
-                     "say (x +  1)", "say (x+1)", "say (x +1)", "say (x+ 1)", "say (not  x)", "say ( not x)", "say (notx)",
+                     "say (x +  1)", "say (x+1)", "say (x +1)", "say (x+ 1)", "say (not  x)", "say ( not x)",
+                     "say (notx)",
                      "say (not x )", "put 'a' 1 ", "put 'a'  1", "put 'a'1", "fail ", " fail", "if x  do", "if x do ",
-                     "while x most  5 do", "while x  most 5 do", "say ' a'", "say 'a '", "say\tx", "say", "say ", "", " "):
+                     "while x most  5 do", "while x  most 5 do", "say ' a'", "say 'a '", "say\tx", "say", "say ", "",
+                     " "):
             self.bad(line + "\nend\n", 1)
             self.bad("fail\nif x do\n" + line + "\nend\nend\n", 3)
 
     def test_brackets(self):
         for text in ("x)", "(x", "(x)", "((x + 1)", "(x + 1))", "()", "(", ")", "x + 1", "not x", "(not)", "(not x x)",
-                     "(x + 1 + 2)", "(+ 1 2)", "(1 2 +)", "(1 2)", "(x not x)", "(not x) 1", "((not x))", "[x + 1]", "(x, 1)",
+                     "(x + 1 + 2)", "(+ 1 2)", "(1 2 +)", "(1 2)", "(x not x)", "(not x) 1", "((not x))", "[x + 1]",
+                     "(x, 1)",
                      "(x + )", "( + x)", "(x ++ 1)", "(x - -)", "(x == 1)", "(x > 1)", "(x & 1)", "(x % 2)", "(x x x)",
-                     "(x let 1)", "(x most 1)", ")x(", "(x + 1)(", "(x + 1)2", "1(x + 1)", "x(", "(not (not x)", "'a", "a'", "''",
+                     "(x let 1)", "(x most 1)", ")x(", "(x + 1)(", "(x + 1)2", "1(x + 1)", "x(", "(not (not x)", "'a",
+                     "a'", "''",
                      "'A'", "'a b'", "'" + "a" * 13 + "'", "\"a\"", "''a''", "'a'b", "'(a'", "'let"):
             self.bad("say " + text + "\n", 1)
             self.bad("put 'a' " + text + "\n", 1)
@@ -125,7 +131,8 @@ class Texts(unittest.TestCase):
         for text, right in (("0", True), ("-0", False), ("00", False), ("01", False), ("-01", False), ("+1", False),
                             ("1.0", False), ("1_0", False), ("--1", False), ("-", False), (str(BOUND), True),
                             (str(-BOUND), True), (str(BOUND + 1), False), (str(-BOUND - 1), False), ("9" * 19, False),
-                            ("1" * 20, False), ("1" + "0" * 19, False), ("1" * 6000, False), ("1e3", False), ("0x1", False)):
+                            ("1" * 20, False), ("1" + "0" * 19, False), ("1" * 6000, False), ("1e3", False),
+                            ("0x1", False)):
             due = self.check(f"say {text}\n")
             self.assertEqual(due, (("say", ("num", int(text))),) if right else (BadText, 1))
         for text, due in (("1", None), ("100", None), ("0", BadProgram), ("101", BadProgram), ("-1", BadProgram),
@@ -136,7 +143,8 @@ class Texts(unittest.TestCase):
 
     def test_names(self):
         for word in [*RESERVED, "A", "a1", "z" * 9, "", "'a'", "1", "(x)"]:
-            for line in (f"let {word} 1", f"get {word} 'a'", f"for {word} w 'a' 'a' do\nend", f"for k {word} 'a' 'a' do\nend"):
+            for line in (f"let {word} 1", f"get {word} 'a'", f"for {word} w 'a' 'a' do\nend",
+                         f"for k {word} 'a' 'a' do\nend"):
                 self.bad(line + "\n", 1)
         for word in [*RESERVED, "z" * 9]:
             self.bad(f"say {word}\n", 1)

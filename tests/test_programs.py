@@ -108,8 +108,8 @@ class Programs(unittest.TestCase):
 
     def test_depth_of_expressions(self):
         for deep in range(1, 12):
-            for statement in (("say", deep_not(deep)), ("let", "x", deep_not(deep)),
-                              ("put", KEY, deep_not(deep)), ("say", ("+", NUM, deep_not(deep - 1)) if deep > 1 else NUM)):
+            for statement in (("say", deep_not(deep)), ("let", "x", deep_not(deep)), ("put", KEY, deep_not(deep)),
+                              ("say", ("+", NUM, deep_not(deep - 1)) if deep > 1 else NUM)):
                 self.assertIs(self.check((statement,)), deep <= 8)
 
     def test_parts_of_expressions(self):
@@ -121,8 +121,10 @@ class Programs(unittest.TestCase):
 
     def test_depth_of_blocks(self):
         def around(word):
-            return {"for": lambda inner: (("for", "k", "w", KEY, KEY, inner),), "if": lambda inner: (("if", NUM, inner, ()),),
-                    "else": lambda inner: (("if", NUM, (), inner),), "while": lambda inner: (("while", NUM, 1, inner),)}[word]
+            return {"for": lambda inner: (("for", "k", "w", KEY, KEY, inner),),
+                    "if": lambda inner: (("if", NUM, inner, ()),),
+                    "else": lambda inner: (("if", NUM, (), inner),),
+                    "while": lambda inner: (("while", NUM, 1, inner),)}[word]
         for word in ("for", "if", "else", "while"):
             which = 1 if word == "else" else 0
             for deep in range(1, 9):

@@ -9,18 +9,11 @@ from wholecommits.recovery import commits_of, meaning, pages_of, prefix_of
 from wholecommits.store import Store, new_store
 from tests.log_rules import lying, prefix_in
 from tests.lying_rules import dict_lying, last_lying, notes_lying, pages_lying
-from tests.store_rules import Beside, one_deed
+from tests.store_rules import Beside, one_deed, put_all
 from tests.things import plain_integer, things
 
 READERS = (pages_of, prefix_of, meaning, commits_of)
 DUE = (pages_lying, notes_lying, dict_lying, last_lying)
-
-
-def put_all(store, worths, soon=False):
-    number = store.begin()
-    for key, worth in worths.items():
-        store.put(number, key, worth)
-    return store.commit_soon(number) if soon else store.commit(number)
 
 
 def rewritten(disk, block, content):
@@ -149,7 +142,7 @@ class Recovery(unittest.TestCase):
             self.assertEqual(self.check(beside.disk), beside.dicts[last])
 
     def test_behind_each_write_of_each_call(self):
-        """Behind each write that a call lets reach the disk its meaning is that ahead of the call, or that behind it."""
+        """Behind each write that reaches the disk its meaning is that ahead of the call, or that behind it."""
         for name in ("commit", "sweep", "vacuum", "checkpoint", "write_out", "force", "opening"):
             for seed in range(12):
                 power = 0
@@ -258,8 +251,9 @@ class Recovery(unittest.TestCase):
         disk = store.disk()
         disk.calm()
         for block in range(1, 13):
-            for content in ((), ("x",), (1,), (0, 1, 0, 0), ("a", "b", "c", "d", "e"), (block - 1, 0, block - 1, 0, 1, "x"),
-                            (block, 1, block - 1, 0, 1, "x"), (block - 1, 9, block - 1, 0, 1, "x"), disk.lying(1)):
+            for content in ((), ("x",), (1,), (0, 1, 0, 0), ("a", "b", "c", "d", "e"),
+                            (block - 1, 0, block - 1, 0, 1, "x"), (block, 1, block - 1, 0, 1, "x"),
+                            (block - 1, 9, block - 1, 0, 1, "x"), disk.lying(1)):
                 other = rewritten(disk, block, content)
                 if is_good(other):
                     self.check(other)
@@ -268,7 +262,8 @@ class Recovery(unittest.TestCase):
 
     def test_records_that_are_no_batch_s(self):
         for record in (("a", 1), (0, 5), (0, 0, 9), (5, 1), (-1,), (41,) + (0,) * 41, (0, 99, 1, "x"), (0, -1, 1, "x"),
-                       (1, "note", 0, 3, "x"), (0, "x", 1, "x"), (0, 1, "x", "x"), (0, 1, 40) + (0,) * 40):
+                       (1, "note", 0, 3, "x"), (0, "x", 1, "x"), (0, 1, "x", "x"), (0, 1, 40) + (0,) * 40, (0, 1, 0),
+                       (0, 15, 1, "x"), (0, 1, 1, "x", 2), (0, 1, 1, "x", 2, 1), (41,) + (0,) * 41 + (1, 1, "x")):
             disk = formatted(24, 8)
             log = Log(disk)
             log.append(record)
@@ -278,6 +273,16 @@ class Recovery(unittest.TestCase):
             self.assertRaises(BadDisk, Store, disk)
             self.assertEqual(disk.lying(0), ("master", 1, 8, 0, 0, 0))
             self.assertEqual(Log(disk).records(), [(0, record)])
+
+    def test_records_that_a_batch_can_be(self):
+        for record in ((0,), (1, "note"), (40,) + (7,) * 40, (0, 14, 1, "x"), (0, 1, 39) + ("x",) * 39,
+                       (0, 1, 1, "x", 2, 2, "x", 5), (0, 0, 5, "meta", -1, 3, 0, 9)):
+            disk = formatted(24, 8)
+            log = Log(disk)
+            log.append(record)
+            log.force(0)
+            self.check(disk)
+            self.assertEqual(Pages(disk).notes(), [(0, record[1:1 + record[0]])])
 
     def test_trees_that_tell_no_versions(self):
         for items in (("leaf", 5), ("inner", 1), ("new",), ("leaf",), ("leaf", "a", -2, 1, 5, "a", -1, 1, 4), ("x", 1)):

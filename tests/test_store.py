@@ -5,19 +5,11 @@ from wholecommits.errors import BadDisk, NoKey, NoNumber, NoPage, NoRoom, NotOpe
 from wholecommits.log import formatted
 from wholecommits.store import Store, new_store
 from tests.log_rules import prefix_in, written
-from tests.store_rules import KEYS, WORTHS, Beside, one_deed, whole_deed
+from tests.store_rules import KEYS, WORTHS, Beside, one_deed, put_all, whole_deed
 from tests.things import plain_integer, plain_key, things
 
 GREATEST = 10 ** 18
 MANY_KEYS = [one + other for one in "abcdefgh" for other in "abcdefgh"]
-
-
-def put_all(store, worths, soon=False):
-    """Commit one transaction that puts a dict; returns what the commit returns."""
-    number = store.begin()
-    for key, worth in worths.items():
-        store.put(number, key, worth)
-    return store.commit_soon(number) if soon else store.commit(number)
 
 
 def told(store):

@@ -115,7 +115,8 @@ class Life:
         """Open a new store on the disk that was cut, which is to be as the commits up to what lies there."""
         last = self.check_lying()
         self.store = Store(self.disk)
-        self.case.assertEqual((self.store.last(), self.store.lasting(), self.store.now()), (last, last, self.dicts[last]))
+        self.case.assertEqual((self.store.last(), self.store.lasting(), self.store.now()),
+                              (last, last, self.dicts[last]))
         self.case.assertEqual((self.store.open_ones(), self.store.ties_of_now()), ({}, ((), ())))
         self.dicts = self.dicts[:last + 1]
         self.sure = last

@@ -106,7 +106,8 @@ def read_due(text):
                 if len(levels) == 1:
                     raise Bad
                 block, head, first = levels.pop()
-                inner = (tuple(block),) if head[0] != "if" else (tuple(block), ()) if first is None else (first, tuple(block))
+                blocks = [tuple(block)] if first is None else [first, tuple(block)]
+                inner = [*blocks, ()][:2] if head[0] == "if" else blocks
                 levels[-1][0].append((*head, *inner))
             else:
                 levels[-1][0].append((word, *parts))

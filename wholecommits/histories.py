@@ -45,7 +45,10 @@ def history_text(history):
         lines.append(f"deal {dealing.snapshot} {number}")
         lines.extend([f"saw {key}" for key in dealing.gets])
         for low, high, own in dealing.ranges:
-            lines.append(" ".join(["range", low, high, *(["but", *own] if own else [])]))
+            words = ["range", low, high]
+            if own:
+                words.extend(["but", *own])
+            lines.append(" ".join(words))
         for key, worth in dealing.writes:
             lines.append(f"drop {key}" if worth is None else f"put {key} {worth}")
     return "".join([line + "\n" for line in lines])

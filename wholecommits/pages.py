@@ -38,7 +38,7 @@ def is_batch_record(many, record):
     if not is_within(0, LONGEST_CONTENT, record[0]):
         return False
     at = 1 + record[0]
-    while at + 1 < len(record) and is_within(0, many - 1, record[at]) and is_within(0, MOST_PAGE_ITEMS, record[at + 1]):
+    while at + 1 < len(record) and is_within(0, many - 1, record[at]) and is_within(1, MOST_PAGE_ITEMS, record[at + 1]):
         at += 2 + record[at + 1]
     return at == len(record)
 

@@ -5,9 +5,8 @@ brackets' ends, a line can be told from its words, and the other way round.
 """
 
 from wholecommits.errors import BadText
-from wholecommits.expressions import DEEPEST, SIGNS, is_expression, is_name
+from wholecommits.expressions import DEEPEST, is_expression, is_name
 from wholecommits.figures import integer_told
-from wholecommits.kinds import is_key, is_worth
 from wholecommits.tongue import PARTS, Program, blocks_of
 
 MOST_FIGURES = 19
@@ -76,7 +75,10 @@ def lines_of(block):
     lines = []
     for statement in block:
         blocks = blocks_of(statement)
-        lines.append(" ".join([statement[0], *part_texts(statement), *(["do"] if blocks else [])]))
+        words = [statement[0], *part_texts(statement)]
+        if blocks:
+            words.append("do")
+        lines.append(" ".join(words))
         for which, part in enumerate(blocks):
             if which == 1 and part:
                 lines.append("else")
@@ -153,7 +155,7 @@ def parts_told(first, words):
     at = 0
     for kind in LINES[first]:
         part, at = part_told(kind, words, at)
-        if at == 0:
+        if part is None:
             return None
         if kind not in ("do", "most"):
             parts.append(part)
@@ -161,50 +163,45 @@ def parts_told(first, words):
 
 
 def part_told(kind, words, at):
-    """The pair of what the words from this place on tell, and the place behind it, 0 if they tell no such part."""
+    """The pair of what the words from this place on tell, None if it is no part of this kind, and the place behind."""
     if kind == "expression":
         expression, behind = expression_told(words, at, DEEPEST)
-        return (expression, behind) if behind > 0 and is_expression(expression) else (None, 0)
+        return expression if is_expression(expression) else None, behind
     word = words[at] if at < len(words) else ""
     if kind == "number":
-        number = integer_told(MOST_FIGURES, word)
-        return (None, 0) if number is None else (number, at + 1)
+        return integer_told(MOST_FIGURES, word), at + 1
     is_right = is_name(word) if kind == "name" else word == kind
-    return (word, at + 1) if is_right else (None, 0)
+    return word if is_right else None, at + 1
 
 
 def expression_told(words, at, deepest):
-    """The pair of the expression that begins at this place and the place behind it, 0 if none does.
+    """The pair of what the words from this place on tell as an expression, and the place behind it.
 
-    It is looked at to so many levels and no more.
+    Only so many levels are read; where the words tell no expression, neither is what is returned one.
     """
     if deepest == 0 or at >= len(words):
-        return None, 0
+        return None, at
     if words[at] != "(":
-        leaf = leaf_told(words[at])
-        return leaf, 0 if leaf is None else at + 1
+        return leaf_told(words[at]), at + 1
     if words[at + 1:at + 2] == ["not"]:
         inner, behind = expression_told(words, at + 2, deepest - 1)
         return closed(words, ("not", inner), behind)
     left, behind = expression_told(words, at + 1, deepest - 1)
-    if behind == 0 or behind >= len(words) or words[behind] not in SIGNS:
-        return None, 0
+    sign = words[behind] if behind < len(words) else ""
     right, end = expression_told(words, behind + 1, deepest - 1)
-    return closed(words, (words[behind], left, right), end)
+    return closed(words, (sign, left, right), end)
 
 
 def closed(words, expression, behind):
-    """The pair of an expression and the place behind its bracket, 0 if none stands there."""
-    if behind == 0 or words[behind:behind + 1] != [")"]:
-        return None, 0
+    """The pair of an expression, None if no bracket closes it, and the place behind that."""
+    if words[behind:behind + 1] != [")"]:
+        return None, behind
     return expression, behind + 1
 
 
 def leaf_told(word):
-    """The number, name or key that a word tells, None if it tells none."""
-    if is_name(word):
-        return "name", word
-    if word[:1] == "'" and word[-1:] == "'" and is_key(word[1:-1]):
+    """What a word tells as a number, a key or a name; whether it is one is not asked."""
+    if word[:1] == "'" and word[-1:] == "'":
         return "key", word[1:-1]
     number = integer_told(MOST_FIGURES, word)
-    return ("num", number) if is_worth(number) else None
+    return ("name", word) if number is None else ("num", number)

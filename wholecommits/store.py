@@ -93,7 +93,8 @@ class Store:
 
     def open_snapshots(self):
         """The lot of the snapshots of the open transactions."""
-        return tuple(sorted(set(list(self.open_ones().values()))))
+        snapshots = list(self.open_ones().values())
+        return tuple(sorted(set(snapshots)))
 
     def last(self):
         """The number of the last commit."""
