@@ -328,7 +328,8 @@ class Desks(unittest.TestCase):
                 self.assertRaises(BadDisk, Desk, 64, thing)
                 self.assertRaises(BadDisk, tale, 64, thing, [])
             if type(thing) in (list, tuple):
-                self.assertEqual(tale(64, 24, thing), ["(NoLine)"] * len(thing))
+                told = ["ok" if line in ("force", "check", "cut") else "(NoLine)" for line in thing]
+                self.assertEqual(tale(64, 24, thing), told)
             else:
                 self.assertRaises(NoLines, tale, 64, 24, thing)
         self.assertEqual((tale(64, 24, ()), tale(64, 24, ["last", 5, "last"])), ([], ["0", "(NoLine)", "0"]))

@@ -292,6 +292,12 @@ class Hands(unittest.TestCase):
                     self.assertEqual((other.asks(), other.said()), (told.ask, tuple(told.said)))
             self.assertEqual(len({id(hand) for hand, _, _ in pairs}), len(pairs))
 
+    def test_a_hand_is_equal_to_itself_alone(self):
+        hand = Hand(Program(()))
+        self.assertTrue(hand == hand)
+        for other in (hand.copy(), Hand(Program(())), Program(()), ("over",), None):
+            self.assertFalse(hand == other)
+
     def test_a_copy_amid_loops(self):
         block = (("while", ONE, 3, (("for", "k", "w", A, Z, (("get", "x", name("k")), ("say", name("x")))),)),)
         hand = Hand(Program(block))

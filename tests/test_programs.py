@@ -81,8 +81,8 @@ class Programs(unittest.TestCase):
 
     def test_things_of_all_kinds(self):
         for thing in things():
-            self.assertEqual(self.check(thing), thing == () and type(thing) is tuple)
-            self.assertFalse(self.check((thing,)))
+            self.assertEqual(self.check(thing), thing in ((), (("fail",),)))
+            self.assertEqual(self.check((thing,)), thing == ("fail",))
             self.assertFalse(self.check((RIGHT["let"], ("let", thing, thing))))
 
     def test_flags_are_no_numbers(self):
@@ -178,8 +178,9 @@ class Programs(unittest.TestCase):
                 self.assertIs(Program(blocks[one]) == Program(tuple(list(blocks[other]))), one == other)
                 self.assertIs(Program(blocks[one]) != Program(blocks[other]), one != other)
         for thing in [*things(), (), Dealing(0, None, (), (), ())]:
-            self.assertIs(Program(()) == thing, False)
-            self.assertIs(thing == Program(()), False)
+            equal = type(thing) is Program
+            self.assertIs(Program(()) == thing, equal)
+            self.assertIs(thing == Program(()), equal)
 
 
 def spoilt(draw, block):
