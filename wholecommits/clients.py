@@ -183,9 +183,9 @@ def is_right_account(play, account):
 def leads_to(programs, rows, state):
     """Whether the programs, run alone one behind another over a dict, ask what was told and lead to a state."""
     worths = {}
-    for client, _, told, _ in rows:
-        hand = Hand(programs[client])
-        if tuple(lead(hand, worths)) != told or hand.asks() != ("over",):
+    for row in rows:
+        hand = Hand(programs[row[0]])
+        if tuple(lead(hand, worths)) != row[2] or hand.asks() != ("over",):
             return False
     return worths == state
 
